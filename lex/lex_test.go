@@ -116,6 +116,23 @@ func byWords(s string) ([]api.Token, int) {
 	return out, -1
 }
 
+// P8.1: each byte by itself, and behind others.
+func TestLexBytes(t *testing.T) {
+	for c := range 256 {
+		for _, ahead := range []string{"", "a", "1", ".", "=", "!", "\"", "\"\\", "#", "1e", "("} {
+			for _, behind := range []string{"", "1", "\"", "=", "~"} {
+				s := ahead + string([]byte{byte(c)}) + behind
+				want, at := byWords(s)
+				got, err := lex.Lex(s)
+				var f *api.Fault
+				if at >= 0 && (!errors.As(err, &f) || f.At != at) || at < 0 && (err != nil || len(got) != len(want) || len(got) > 0 && !reflect.DeepEqual(got, want)) {
+					t.Fatalf("P8.1: %q: %v %v, want %v or %d", s, got, err, want, at)
+				}
+			}
+		}
+	}
+}
+
 func someQuery(r *rand.Rand) string {
 	var b strings.Builder
 	pieces := []string{"a", "e", "E", "1", "5", ".", "+", "-", "=", "!", "~", ">", "\"", "\\", "n", " ", "\n", "#", "m", "s", "ms", "1e", "_", ":", "(", "]", ",", "é", "\xff", "\"a\"", "5m", "1.5"}

@@ -32,6 +32,7 @@ func TestRight(t *testing.T) {
 		{}, {Op: 0, Name: "a", Value: "1"}, {Op: 5, Name: "a", Value: "1"}, {Op: -1, Name: "a", Value: "1"},
 		{Op: api.Is, Name: "", Value: "1"}, {Op: api.Is, Name: "a:b", Value: "1"}, {Op: api.Is, Name: long + "x", Value: "1"},
 		{Op: api.Is, Name: "a", Value: long + "x"}, {Op: api.Is, Name: "a", Value: "\xff"}, {Op: api.Like, Name: "a", Value: "\\\xff"},
+		{Op: api.IsNot, Name: "a:b", Value: "1"}, {Op: api.IsNot, Name: "", Value: "x"}, {Op: api.Unlike, Name: "1", Value: "x"}, {Op: api.Like, Name: "é", Value: ""}, {Op: api.IsNot, Name: "b", Value: "\xff"}, {Op: api.Unlike, Name: "b", Value: "\\\xff"},
 		{Op: api.Like, Name: "a", Value: "("}, {Op: api.Unlike, Name: "a", Value: "a{1}"}, {Op: api.Unlike, Name: "a", Value: strings.Repeat("(", 33) + strings.Repeat(")", 33)},
 	} {
 		if matcher.Right(m) || matcher.Holds(m, set("a", "1")) || matcher.Holds(m, nil) {

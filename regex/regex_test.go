@@ -241,6 +241,26 @@ func TestMatch(t *testing.T) {
 	}
 }
 
+// P2.2: each byte, by itself and in lists of bytes, and as many parts as a pattern may have.
+func TestMatchBytes(t *testing.T) {
+	for c := range 256 {
+		one := string([]byte{byte(c)})
+		for d := range 256 {
+			s := string([]byte{byte(d)})
+			if matches(t, "\\"+one, s) != (c == d) || matches(t, "[^\\"+one+"]", s) == (c == d) || matches(t, "[\\"+one+"-\xff]", s) != (d >= c) {
+				t.Fatalf("P2.2: byte %d of %d", d, c)
+			}
+		}
+	}
+	long := strings.Repeat("abcdefghij", 20)
+	for k := range 200 {
+		other := long[:k] + "z" + long[k+1:]
+		if !matches(t, other, other) || matches(t, other, long) || matches(t, long, other) || !matches(t, long[:k]+"."+long[k+1:], long) {
+			t.Fatalf("P2.2: a text of 200 bytes, unlike at %d", k)
+		}
+	}
+}
+
 // P2.2: texts that are too long, behind Check's errors.
 func TestMatchTooLong(t *testing.T) {
 	if got, err := regex.Match("a*", strings.Repeat("a", 4000)); !got || err != nil {

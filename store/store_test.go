@@ -127,7 +127,7 @@ func TestAppendWrong(t *testing.T) {
 	}{
 		{nil, math.MaxInt64, api.BadLabel}, {set("a", ""), 1, api.BadLabel}, {set("a", "1", "a", "2"), 1, api.BadLabel}, {set("é", "1"), math.MinInt64, api.BadLabel},
 		{set("a", "1"), api.MaxTime + 1, api.BadTime}, {set("a", "1"), -api.MaxTime - 1, api.BadTime}, {set("a", "1"), math.MinInt64, api.BadTime},
-		{set("a", "1"), 5, api.BadOrder}, {set("a", "1"), 4, api.BadOrder}, {set("c", "1", "x", ""), 0, api.BadOrder},
+		{set("a", "1"), 5, api.BadOrder}, {set("a", "1"), 4, api.BadOrder}, {set("c", "1", "x", ""), 0, api.BadOrder}, {set("a", "1", "b", "1"), 0, api.BadOrder},
 	} {
 		if got, err := store.Append(s, c.l, api.Point{T: c.t}); !errors.Is(err, c.want) || len(got) != 0 {
 			t.Errorf("P5.2: %d: %v %v", k, got, err)
